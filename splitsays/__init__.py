@@ -1,0 +1,1 @@
+"""Splitsays: sayings about what was and will be, told apart."""

@@ -1,0 +1,74 @@
+"""The interface: what is defined where, with which arguments; and what the package's folder holds."""
+
+import ast
+import importlib
+import inspect
+import pathlib
+import unittest
+
+FOLDER = pathlib.Path(__file__).resolve().parent.parent / "splitsays"
+
+# Each file: its names, and their arguments in their sequence.
+INTERFACE = {
+    "errors": {
+        "SayError": None, "BadRow": ["path"], "BadSheet": ["path"], "BadClaim": ["path"], "BadRules": ["path"],
+        "BadText": ["place"], "TooGreat": None, "BadAct": ["word"], "NothingDone": None, "NameMissing": None,
+        "UnknownName": ["name"],
+    },
+    "words": {"is_word": ["value"], "is_integer": ["value"], "is_number": ["value"]},
+    "rows": {
+        "is_lot": ["value"], "check_row": ["value"], "lot_at": ["row", "moment"],
+        "holds": ["row", "letter", "moment"], "letters_of": ["row"], "one_form": ["row"],
+        "are_alike": ["one", "other"], "nearest_unlike": ["one", "other"], "shifted": ["row", "by"],
+        "mirrored_row": ["row"], "joined_rows": ["one", "other", "moment"], "with_lot": ["row", "moment", "lot"],
+    },
+    "lexemes": {"lexemes": ["text"]},
+}
+
+
+def files():
+    return sorted(path for path in FOLDER.rglob("*") if "__pycache__" not in path.parts)
+
+
+class Interface(unittest.TestCase):
+    def test_each_name_is_defined_in_its_file(self):
+        for name, told in INTERFACE.items():
+            tree = ast.parse((FOLDER / f"{name}.py").read_text())
+            found = {node.name for node in tree.body if isinstance(node, (ast.FunctionDef, ast.ClassDef))}
+            self.assertLessEqual(set(told), found)
+
+    def test_arguments(self):
+        for name, told in INTERFACE.items():
+            module = importlib.import_module(f"splitsays.{name}")
+            for word, arguments in told.items():
+                if arguments is not None:
+                    self.assertEqual(list(inspect.signature(getattr(module, word)).parameters), arguments, word)
+
+
+class Folder(unittest.TestCase):
+    def test_it_holds_python_files_alone(self):
+        self.assertIn(FOLDER / "__init__.py", files())
+        for path in files():
+            self.assertTrue(path.is_dir() or path.suffix == ".py", path)
+
+    def test_sizes_and_signs(self):
+        for path in files():
+            text = path.read_text()
+            lines = text.split("\n")
+            self.assertLess(len(lines), 400, path)
+            self.assertLessEqual(max(len(line) for line in lines), 120, path)
+            self.assertTrue(all(sign == "\n" or " " <= sign <= "~" for sign in text), path)
+            for node in ast.walk(ast.parse(text)):
+                if isinstance(node, ast.FunctionDef):
+                    self.assertLessEqual(node.end_lineno - node.lineno + 1, 40, node.name)
+
+    def test_nothing_is_imported_from_outside(self):
+        for path in files():
+            for node in ast.walk(ast.parse(path.read_text())):
+                self.assertNotIsInstance(node, ast.Import, path)
+                if isinstance(node, ast.ImportFrom):
+                    self.assertTrue(node.module.startswith("splitsays."), path)
+
+
+if __name__ == "__main__":
+    unittest.main()
