@@ -72,17 +72,14 @@ def one_form(row):
     behind = _least_round(right)
     start = _first_change(row, before)
     if start is None:
-        lots = _lots_between(row, 0, before)
+        lots = lots_between(row, 0, before)
         return (0, lots, (), lots)
     end = max(first + len(middle), start)
-    while end > start and lot_at(row, end - 1) == lot_at(row, end - 1 + behind):
-        end -= 1
-    return (
-        start,
-        _lots_between(row, start - before, start),
-        _lots_between(row, start, end),
-        _lots_between(row, end, end + behind),
-    )
+    lots = lots_between(row, start, end + behind)
+    many = end - start
+    while many > 0 and lots[many - 1] == lots[many - 1 + behind]:
+        many -= 1
+    return (start, lots_between(row, start - before, start), lots[:many], lots[many:many + behind])
 
 
 def _least_round(lots):
@@ -98,18 +95,29 @@ def _first_change(row, apart):
 
     The number is one by which the row's left side comes round.
     """
-    first, left, middle, right = row
     # Behind the middle and one left round both lots are of the right side:
     # what is so there for one right round is so for ever.
-    for moment in range(first, first + len(middle) + len(left) + len(right)):
-        if lot_at(row, moment) != lot_at(row, moment - apart):
-            return moment
+    lots = lots_between(row, row[0] - apart, row[0] + _many_lots(row))
+    for at, (ago, now) in enumerate(zip(lots, lots[apart:])):
+        if ago != now:
+            return row[0] + at
     return None
 
 
-def _lots_between(row, start, end):
+def lots_between(row, start, end):
     """Return the tuple of the lots from start on, up to the one ahead of end."""
-    return tuple([lot_at(row, moment) for moment in range(start, end)])
+    first, left, middle, right = row
+    last = first + len(middle)
+    ahead = _round_between(left, start - first, min(end, first) - first)
+    behind = _round_between(right, max(start, last) - last, end - last)
+    return ahead + middle[max(start - first, 0):max(end - first, 0)] + behind
+
+
+def _round_between(lots, start, end):
+    """Return the tuple of the lots from start on, up to the one ahead of end, if the round begins at 0."""
+    turn = start % len(lots)
+    many = max(end - start, 0)
+    return (lots * ((turn + many) // len(lots) + 1))[turn:turn + many]
 
 
 def are_alike(one, other):
@@ -159,8 +167,13 @@ def shifted(row, by):
 
 def mirrored_row(row):
     """Return the row in one form that has at each moment k the lot at -k."""
+    return one_form(turned(row))
+
+
+def turned(row):
+    """Return a row, perhaps not in one form, that has at each moment k the lot at -k."""
     first, left, middle, right = row
-    return one_form((1 - first - len(middle), right[::-1], middle[::-1], left[::-1]))
+    return (1 - first - len(middle), right[::-1], middle[::-1], left[::-1])
 
 
 def joined_rows(one, other, moment):
@@ -168,7 +181,7 @@ def joined_rows(one, other, moment):
     later = moment + 1
     start = min(one[0], later)
     end = max(other[0] + len(other[2]), later)
-    middle = _lots_between(one, start, later) + _lots_between(other, later, end)
+    middle = lots_between(one, start, later) + lots_between(other, later, end)
     return _between_sides(one, start, middle, end, other)
 
 
@@ -177,12 +190,12 @@ def with_lot(row, moment, lot):
     later = moment + 1
     start = min(row[0], moment)
     end = max(row[0] + len(row[2]), later)
-    middle = _lots_between(row, start, moment) + (lot,) + _lots_between(row, later, end)
+    middle = lots_between(row, start, moment) + (lot,) + lots_between(row, later, end)
     return _between_sides(row, start, middle, end, row)
 
 
 def _between_sides(one, start, middle, end, other):
     """Return in one form the middle from start to end between one's left side and other's right one."""
-    left = _lots_between(one, start - len(one[1]), start)
-    right = _lots_between(other, end, end + len(other[3]))
+    left = lots_between(one, start - len(one[1]), start)
+    right = lots_between(other, end, end + len(other[3]))
     return one_form((start, left, middle, right))

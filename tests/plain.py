@@ -27,6 +27,16 @@ def unrolled(row, start, end):
     return lots[start - low:end - low]
 
 
+def lot_of(row, moment):
+    """The lot at a moment, by the words of S1.1."""
+    first, left, middle, right = row
+    if moment < first:
+        return left[(moment - first) % len(left)]
+    if moment <= first + len(middle) - 1:
+        return middle[moment - first]
+    return right[(moment - first - len(middle)) % len(right)]
+
+
 def a_lot(chance, letters):
     return tuple(sorted(letter for letter in letters if chance.random() < 0.4))
 

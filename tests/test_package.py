@@ -23,7 +23,20 @@ INTERFACE = {
         "mirrored_row": ["row"], "joined_rows": ["one", "other", "moment"], "with_lot": ["row", "moment", "lot"],
     },
     "lexemes": {"lexemes": ["text"]},
+    "rowtexts": {"row_text": ["row"], "lot_text": ["lot"], "read_row": ["text"]},
+    "sheets": {
+        "check_sheet": ["value"], "needed": ["sheet"], "letters_in": ["sheet"], "part": ["sheet", "number"],
+        "tidy": ["sheet"], "put": ["word", "one", "other"], "denied": ["sheet"], "mirrored_sheet": ["sheet"],
+    },
+    "sheettexts": {"sheet_text": ["sheet"], "read_sheet": ["text"]},
+    "truths": {
+        "truth": ["sheet", "row", "moment"], "truths": ["sheet", "row", "moment"], "truth_row": ["sheet", "row"],
+        "are_alike_on": ["one", "other", "row"], "nearest_apart": ["one", "other", "row"],
+    },
 }
+
+# What the package may import from outside of it.
+LIBRARY = {"math": {"lcm"}}
 
 
 def files():
@@ -67,7 +80,8 @@ class Folder(unittest.TestCase):
             for node in ast.walk(ast.parse(path.read_text())):
                 self.assertNotIsInstance(node, ast.Import, path)
                 if isinstance(node, ast.ImportFrom):
-                    self.assertTrue(node.module.startswith("splitsays."), path)
+                    names = {name.name for name in node.names}
+                    self.assertTrue(node.module.startswith("splitsays.") or names <= LIBRARY.get(node.module, set()))
 
 
 if __name__ == "__main__":
