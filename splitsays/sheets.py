@@ -6,7 +6,10 @@ from splitsays.words import is_number, is_word
 # How many members a line with this word has.
 MEMBERS = {"letter": 2, "yes": 1, "not": 2, "and": 3, "or": 3, "until": 3, "since": 3}
 
-_MIRRORED = {"until": "since", "since": "until"}
+# The words of lines that look at the moment itself alone.
+MIXING = ("not", "and", "or")
+
+OPPOSITE = {"until": "since", "since": "until"}
 
 
 def check_sheet(value):
@@ -65,11 +68,11 @@ def part(sheet, number):
     lines = []
     for at in needed_by(sheet, number):
         places[at] = len(lines)
-        lines.append(_told_anew(sheet[at], places))
+        lines.append(told_anew(sheet[at], places))
     return tuple(lines)
 
 
-def _told_anew(line, places):
+def told_anew(line, places):
     """Return a line with the numbers that stand under its own ones."""
     if line[0] == "letter":
         return line
@@ -90,7 +93,7 @@ def told_once(sheet, numbers):
     known = {}
     places = {}
     for number in numbers:
-        line = _told_anew(sheet[number], places)
+        line = told_anew(sheet[number], places)
         places[number] = known.setdefault(line, len(known))
     return tuple(known), places
 
@@ -116,4 +119,4 @@ def denied(sheet):
 
 def mirrored_sheet(sheet):
     """Return the sheet with until in the place of since, and since in that of until."""
-    return tuple([(_MIRRORED.get(line[0], line[0]),) + line[1:] for line in sheet])
+    return tuple([(OPPOSITE.get(line[0], line[0]),) + line[1:] for line in sheet])

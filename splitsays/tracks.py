@@ -51,7 +51,7 @@ def _track(line, known, row):
         return one_form(_since(one, other))
     if word == "until":
         return one_form(turned(_since(turned(one), turned(other))))
-    return one_form(_both(one, other) if word == "and" else _either(one, other))
+    return _both(one, other) if word == "and" else either(one, other)
 
 
 def _each(row, told):
@@ -66,15 +66,27 @@ def _both(one, other):
     start, end, before, behind = _frame(one, other)
     ones = lots_between(one, start - before, end + behind)
     others = lots_between(other, start - before, end + behind)
-    return _cut([x and y for x, y in zip(ones, others)], start, before, behind)
+    return one_form(_cut([x and y for x, y in zip(ones, others)], start, before, behind))
 
 
-def _either(one, other):
+def either(one, other):
     """Return the track that is true where one of the two is."""
     start, end, before, behind = _frame(one, other)
     ones = lots_between(one, start - before, end + behind)
     others = lots_between(other, start - before, end + behind)
-    return _cut([x or y for x, y in zip(ones, others)], start, before, behind)
+    return one_form(_cut([x or y for x, y in zip(ones, others)], start, before, behind))
+
+
+def next_moment(track, moment, wanted):
+    """Return the nearest later moment with the wanted truth, or None."""
+    many = len(track[1]) + len(track[2]) + len(track[3])
+    # What comes later is seen whole in so many moments, but for the left
+    # side: if it has no such truth in one round, it has none at all.
+    for start in (moment + 1, max(moment + 1, track[0])):
+        for at, found in enumerate(lots_between(track, start, start + many)):
+            if found == wanted:
+                return start + at
+    return None
 
 
 def _since(one, other):

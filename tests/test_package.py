@@ -33,6 +33,15 @@ INTERFACE = {
         "truth": ["sheet", "row", "moment"], "truths": ["sheet", "row", "moment"], "truth_row": ["sheet", "row"],
         "are_alike_on": ["one", "other", "row"], "nearest_apart": ["one", "other", "row"],
     },
+    "shown": {"shown": ["sheet", "row", "moment"]},
+    "canbe": {"can_be": ["sheet"], "is_always": ["sheet"], "alike": ["one", "other"]},
+    "kinds": {
+        "touched": ["sheet", "number"], "rests_on": ["sheet"], "is_past": ["sheet"], "is_now": ["sheet"],
+        "is_future": ["sheet"], "is_split": ["sheet"], "kind": ["sheet"], "turns": ["sheet"], "weight": ["sheet"],
+    },
+    "drawing": {
+        "drawn": ["sheet", "k", "j"], "judge_drawn": ["sheet", "k", "j", "value"], "left_to_draw": ["sheet"],
+    },
 }
 
 # What the package may import from outside of it.

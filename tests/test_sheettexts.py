@@ -40,7 +40,8 @@ class Read(unittest.TestCase):
         for gap in (" ", "\n", " \n\n  "):
             self.assertEqual(read_sheet(gap + gap.join(LEXEME.findall(WRITTEN_K)) + gap), K)
         self.assertEqual(read_sheet("sheet{letter a;yes;until 0 1;}"), LETTER_A + YES + (("until", 0, 1),))
-        self.assertEqual(read_sheet("sheet{yes;and 0 0;or 1 0;not 2;}"), YES + (("and", 0, 0), ("or", 1, 0), ("not", 2)))
+        self.assertEqual(read_sheet("sheet{yes;and 0 0;or 1 0;not 2;}"),
+                         YES + (("and", 0, 0), ("or", 1, 0), ("not", 2)))
 
     def test_numbers_beside_each_other(self):
         # 00 are two numbers, and 10 is one.

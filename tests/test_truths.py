@@ -131,7 +131,8 @@ class TruthRows(unittest.TestCase):
         self.assertEqual(truth_row(NO, R), NEVER)
         self.assertEqual(truth_row(LETTER_A, R), (0, (NONE,), (Y, Y), (NONE,)))
         self.assertEqual(truth_row(LETTER_B, R), (1, (NONE,), (Y,), (Y, NONE)))
-        self.assertEqual(truth_row(LETTER_A, (7, (A, NONE, A, NONE), (A, NONE), (A, NONE))), (0, (NONE, Y), (), (NONE, Y)))
+        row = (7, (A, NONE, A, NONE), (A, NONE), (A, NONE))
+        self.assertEqual(truth_row(LETTER_A, row), (0, (NONE, Y), (), (NONE, Y)))
         # b at the next moment: the truths of b, one moment earlier.
         self.assertEqual(truth_row(B_AND_NO + (("until", 0, 2),), R), (0, (NONE,), (Y,), (Y, NONE)))
         # More until lines of this kind move it further.
@@ -159,8 +160,8 @@ class TruthRows(unittest.TestCase):
             sheet = tuple(("letter", letter) for letter in LETTERS)
             while len(sheet) < 100:
                 at = len(sheet)
-                line = (chance.choice(("until", "since", "and", "or")), chance.randrange(at), chance.randrange(at - 8, at))
-                sheet += (line,)
+                word = chance.choice(("until", "since", "and", "or"))
+                sheet += ((word, chance.randrange(at), chance.randrange(at - 8, at)),)
             plain = Truths(sheet, row)
             for moment in (-FAR, FAR):
                 self.assertEqual(len(truths(sheet, row, moment)), 100)
