@@ -4,7 +4,7 @@ from splitsays.errors import BadSheet
 from splitsays.kinds import touched
 from splitsays.maker import Maker
 from splitsays.sheets import (
-    MIXING, OPPOSITE, check_sheet, members, mirrored_sheet, needed, needed_by, part, put, told_anew, told_once,
+    MIXING, OPPOSITE, check_sheet, members, mirrored_sheet, needed, needed_by, part, put, told_once,
 )
 from splitsays.way import Way
 
@@ -26,20 +26,17 @@ def drawn(sheet, k, j):
 
 def _drawn_out(lines, until):
     """Return the sheet that is drawn from the last one of these lines by an until line that a since line touches."""
-    maker = Maker()
-    copied = {}
+    maker = Maker(lines)
     made = {}
     way = maker
     for number, line in enumerate(lines):
         # Until lines stay as they are told, and so do the lines that they need.
-        if line[0] != "since" and all([member in copied for member in members(line)]):
-            copied[number] = maker.line(told_anew(line, copied))
         if line[0] == "since":
             made[number] = way.since(made[line[1]], made[line[2]])
         else:
-            made[number] = maker.mixed(line, copied.get(number), made)
+            made[number] = maker.mixed(line, number, made)
         if number == until:
-            way = Way(maker, made[number], made[line[1]], made[line[2]])
+            way = Way(maker, until, made[line[1]], made[line[2]])
     return part(tuple(maker.lines), made[len(lines) - 1])
 
 

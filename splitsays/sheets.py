@@ -68,11 +68,11 @@ def part(sheet, number):
     lines = []
     for at in needed_by(sheet, number):
         places[at] = len(lines)
-        lines.append(told_anew(sheet[at], places))
+        lines.append(_told_anew(sheet[at], places))
     return tuple(lines)
 
 
-def told_anew(line, places):
+def _told_anew(line, places):
     """Return a line with the numbers that stand under its own ones."""
     if line[0] == "letter":
         return line
@@ -93,7 +93,7 @@ def told_once(sheet, numbers):
     known = {}
     places = {}
     for number in numbers:
-        line = told_anew(sheet[number], places)
+        line = _told_anew(sheet[number], places)
         places[number] = known.setdefault(line, len(known))
     return tuple(known), places
 

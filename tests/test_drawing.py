@@ -121,6 +121,10 @@ class Drawn(unittest.TestCase):
         self.assertEqual(self.check(sheet, 5, 3), part(sheet, 5))
         mirrored = mirrored_sheet(sheet)
         self.assertEqual(self.check(mirrored, 5, 3), part(mirrored, 5))
+        # Also if it could be told in a shorter way.
+        sheet = YES + LETTER_A + (("until", 1, 0), ("until", 2, 1), ("not", 3), ("not", 4), ("and", 5, 0))
+        sheet += (("and", 5, 0), ("or", 7, 6), ("since", 8, 8))
+        self.assertEqual(self.check(sheet, 9, 2), part(sheet, 9))
 
     def test_an_until_line_that_only_an_inner_since_line_touches(self):
         sheet = UNTIL + (("since", 2, 1), ("since", 3, 0), ("and", 4, 1), ("since", 5, 3))
