@@ -205,7 +205,9 @@ class Judged(unittest.TestCase):
     def test_no_sheet(self):
         for value in STRANGE + [(), 0, "", "yes", list(K), (("not", 0),), K + (("not", 6),), K + (("until", 0, True),),
                                 BadRow(()), nested(K, 40, list)]:
+            kept = repr(value)
             self.check(K, 5, 3, value, ("form",))
+            self.assertEqual(repr(value), kept)
 
     def test_touching(self):
         until = UNTIL + (("since", 2, 1),)
