@@ -28,14 +28,15 @@ def _lot_lexemes(lot):
 def read_row(text):
     """Return the row of a text, as it is told."""
     reader = Reader(text)
-    row = _take_row(reader)
+    first, left, middle, right = _take_row(reader)
     reader.take_end()
+    row = (int(first), left, middle, right)
     check_row(row)
     return row
 
 
 def _take_row(reader):
-    """Take what has the form of a row, and return it, right or wrong."""
+    """Take what has the form of a row, and return its four parts, right or wrong, the first one as a string."""
     reader.take("row")
     reader.take("at")
     first = _take_first(reader)
@@ -48,13 +49,13 @@ def _take_row(reader):
 
 
 def _take_first(reader):
-    """Take a number, or one other than 0 behind a sign, and return it."""
+    """Take a number, or one other than 0 behind a sign, and return both as a string."""
     if not reader.sees("-"):
-        return int(reader.take_sort("number"))
+        return reader.take_sort("number")
     reader.take("-")
     if reader.sees("0"):
         raise BadText(reader.place())
-    return -int(reader.take_sort("number"))
+    return "-" + reader.take_sort("number")
 
 
 def _take_lots(reader, word, least):

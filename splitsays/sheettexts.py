@@ -3,6 +3,9 @@
 from splitsays.sheets import MEMBERS, check_sheet
 from splitsays.texts import Reader, written
 
+# How many digits of a number are read: what has more is the number of no line, and neither is what they tell.
+_ENOUGH = 40
+
 
 def sheet_text(sheet):
     """Return the written text of a sheet."""
@@ -40,6 +43,6 @@ def _take_line(reader):
         if word == "letter":
             line.append(reader.take_sort("word"))
         else:
-            line.append(int(reader.take_sort("number")))
+            line.append(int(reader.take_sort("number")[:_ENOUGH]))
     reader.take(";")
     return tuple(line)

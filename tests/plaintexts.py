@@ -73,8 +73,3 @@ def spoiled(text, seed, many):
             told = told[:chance.randrange(len(told) + 1)]
         made.append("".join(lexeme + chance.choice((" ", " ", "\n", "  \n ", "")) for lexeme in told))
     return made
-
-
-def has_long_number_ahead(text, place):
-    """Whether a number beyond the limits stands ahead of the first wrong place."""
-    return LONG in text[:place]

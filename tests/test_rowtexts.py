@@ -5,7 +5,7 @@ import unittest
 from splitsays.errors import BadRow, BadText
 from splitsays.rowtexts import lot_text, read_row, row_text
 from tests.plain import A, AB, B, FAR, LETTERS, NONE, R, great_row, rows
-from tests.plaintexts import LEXEME, ROW, first_wrong, has_long_number_ahead, spoiled
+from tests.plaintexts import LEXEME, LONG, ROW, first_wrong, spoiled
 
 WRITTEN_R = "row at 0 {\nleft ();\nmiddle (a) (a b);\nright (b) ();\n}\n"
 WHOLE = "row at 0 { left ( ) ; middle ( a ) ( a b ) ; right ( b ) ( ) ; }"
@@ -144,6 +144,8 @@ class WrongPlaces(unittest.TestCase):
         self.check("row at 5 " + long + " $", 9)
         self.check(long, 0)
         self.check("row at 0 0" + long, 9)
+        self.check("row at -" + long, 8 + len(long))
+        self.check("row at " + long + " { right", 10 + len(long))
 
     def test_forms_of_another_sort(self):
         self.check("sheet { yes ; }", 0)
@@ -155,14 +157,12 @@ class WrongPlaces(unittest.TestCase):
         for seed, row in enumerate([R, (-3, (A,), (), (B,)), (7, (A, AB), (NONE,), (B,))]):
             for text in spoiled(row_text(row), seed, 700):
                 place = first_wrong(text, ROW)
-                if has_long_number_ahead(text, place):
-                    continue
-                if place is None:
+                if place is None and LONG not in text:
                     try:
                         read_row(text)
                     except BadRow:
                         pass
-                else:
+                elif place is not None:
                     self.check(text, place)
                     wrong += 1
         self.assertGreater(wrong, 1000)

@@ -5,7 +5,7 @@ import unittest
 from splitsays.errors import BadSheet, BadText
 from splitsays.sheettexts import read_sheet, sheet_text
 from tests.plainsheets import K, LETTER_A, LOOSE, YES, chained, sheets
-from tests.plaintexts import LEXEME, SHEET, first_wrong, has_long_number_ahead, spoiled
+from tests.plaintexts import LEXEME, SHEET, first_wrong, spoiled
 
 WRITTEN_K = "sheet {\nletter a;\nletter b;\nyes;\nuntil 1 2;\nand 0 3;\nsince 4 2;\n}\n"
 FORMS = ("letter", "yes", "not", "and", "or", "until", "since", "sheet", "row", "at", "left", "middle", "right")
@@ -125,14 +125,14 @@ class WrongPlaces(unittest.TestCase):
         self.check("sheet { and 0 0 " + long + " ; }", 16)
         self.check("sheet } " + long, 6)
         self.check("sheet { yes ; } " + long, 16)
+        self.check("sheet { yes ; not " + long, 18 + len(long))
+        self.check("sheet { yes ; and " + long + " ;", 19 + len(long))
 
     def test_many_spoiled_texts(self):
         wrong = 0
         for seed, sheet in enumerate([K, YES, LOOSE]):
             for text in spoiled(sheet_text(sheet), seed, 700):
                 place = first_wrong(text, SHEET)
-                if has_long_number_ahead(text, place):
-                    continue
                 if place is None:
                     try:
                         read_sheet(text)
@@ -157,6 +157,8 @@ class WrongSheets(unittest.TestCase):
         self.check("sheet { yes ; yes ; and 2 5 ; }", (2, 1))
         self.check("sheet { yes ; yes ; until 1 2 ; not 9 ; }", (2, 2))
         self.check("sheet { yes ; since 0 " + "7" * 40 + " ; }", (1, 2))
+        self.check("sheet { yes ; since 0 1" + "0" * 40 + " ; }", (1, 2))
+        self.check("sheet { yes ; since 0 1" + "0" * 6000 + " ; }", (1, 2))
 
     def test_the_text_counts_first(self):
         for text, place in (("sheet { not 0 ; ", 15), ("sheet { not 0 ; } $", 18), ("sheet { not 5 ; } }", 18)):
