@@ -3,9 +3,7 @@
 from splitsays.errors import BadSheet
 from splitsays.kinds import touched
 from splitsays.maker import Maker
-from splitsays.sheets import (
-    MIXING, OPPOSITE, check_sheet, members, mirrored_sheet, needed, needed_by, part, put, told_once,
-)
+from splitsays.sheets import MIXING, OPPOSITE, check_sheet, members, needed, needed_by, part, put, told_once
 from splitsays.way import Way
 
 # How many lines may come of one that is drawn.
@@ -14,30 +12,30 @@ _MOST = 5
 
 def drawn(sheet, k, j):
     """Return a sheet that is drawn from the line k of a sheet by the line j."""
-    if sheet[k][0] == "until":
-        return mirrored_sheet(drawn(mirrored_sheet(sheet), k, j))
+    word = sheet[k][0]
     lines, places = told_once(sheet, needed_by(sheet, k))
-    until = places[j]
-    sinces = [number for number, line in enumerate(lines) if line[0] == "since"]
-    if not any([until in touched(lines, number) for number in sinces]):
+    looks = [number for number, line in enumerate(lines) if line[0] == word]
+    if not any([places[j] in touched(lines, number) for number in looks]):
         return part(sheet, k)
-    return _drawn_out(lines, until)
+    return _drawn_out(lines, word, places[j])
 
 
-def _drawn_out(lines, until):
-    """Return the sheet that is drawn from the last one of these lines by an until line that a since line touches."""
+def _drawn_out(lines, word, inner):
+    """Return the sheet that is drawn from the last one of these lines by one that a line of this word touches."""
     maker = Maker(lines)
     made = {}
-    way = maker
+    way = None
     for number, line in enumerate(lines):
-        # Until lines stay as they are told, and so do the lines that they need.
-        if line[0] == "since":
-            made[number] = way.since(made[line[1]], made[line[2]])
-        else:
+        # Lines of the other word stay as they are told, and so do the lines that they need.
+        if line[0] != word:
             made[number] = maker.mixed(line, number, made)
-        if number == until:
-            way = Way(maker, until, made[line[1]], made[line[2]])
-    return part(tuple(maker.lines), made[len(lines) - 1])
+        elif way is None:
+            made[number] = maker.look(word, made[line[1]], made[line[2]])
+        else:
+            made[number] = way.look(made[line[1]], made[line[2]])
+        if number == inner:
+            way = Way(maker, inner, made[line[1]], made[line[2]])
+    return maker.sheet(made[len(lines) - 1])
 
 
 def judge_drawn(sheet, k, j, value):

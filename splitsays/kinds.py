@@ -7,14 +7,18 @@ GREATEST_WEIGHT = 130
 
 def touched(sheet, number):
     """Return the ascending list of the numbers of the lines that the line with a number touches."""
-    found = {at: True for member in members(sheet[number]) for at in reached(sheet, member)}
-    return sorted([at for at in found if _can_be_touched(sheet[at])])
+    return [at for at in reached_from(sheet, members(sheet[number])) if _can_be_touched(sheet[at])]
 
 
 def reached(lines, number):
     """Return the ascending list of the line with a number and of all to which not, and, or lead from it."""
-    found = {number: True}
-    ahead = [number]
+    return reached_from(lines, [number])
+
+
+def reached_from(lines, numbers):
+    """Return the ascending list of the lines with these numbers and of all to which not, and, or lead from them."""
+    found = {number: True for number in numbers}
+    ahead = list(found)
     while ahead:
         line = lines[ahead.pop()]
         if line[0] in MIXING:

@@ -49,8 +49,16 @@ def needed(sheet):
 
 def needed_by(sheet, number):
     """Return the ascending list of the numbers of the lines that the line with a number needs."""
-    wanted = [False] * number + [True]
-    for at in range(number, -1, -1):
+    return needed_by_all(sheet, [number])
+
+
+def needed_by_all(sheet, numbers):
+    """Return the ascending list of the numbers of the lines that some line with one of these numbers needs."""
+    last = max(numbers, default=-1)
+    wanted = [False] * (last + 1)
+    for number in numbers:
+        wanted[number] = True
+    for at in range(last, -1, -1):
         if wanted[at]:
             for member in members(sheet[at]):
                 wanted[member] = True

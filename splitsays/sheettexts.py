@@ -3,9 +3,6 @@
 from splitsays.sheets import MEMBERS, check_sheet
 from splitsays.texts import Reader, written
 
-# How many digits of a number are read: what has more is the number of no line, and neither is what they tell.
-_ENOUGH = 40
-
 
 def sheet_text(sheet):
     """Return the written text of a sheet."""
@@ -43,6 +40,6 @@ def _take_line(reader):
         if word == "letter":
             line.append(reader.take_sort("word"))
         else:
-            line.append(int(reader.take_sort("number")[:_ENOUGH]))
+            line.append(reader.take_number())
     reader.take(";")
     return tuple(line)

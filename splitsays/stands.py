@@ -8,6 +8,8 @@ stand leads from one joint to another one, and may be followed by each stand
 that begins with the joint with which it ends.
 """
 
+from splitsays.tables import table_of, tables_of, ways_of
+
 _FREE = ("letter", "until", "since")
 
 
@@ -18,7 +20,7 @@ class Stands:
         self.lines = lines
         self.free = [number for number, line in enumerate(lines) if line[0] in _FREE]
         self.many = 1 << len(self.free)
-        self.true_at = _true_at(lines, self.free, self.many)
+        self.true_at = _true_at(lines, self.free)
         self.untils = self.numbers("until")
         self.sinces = self.numbers("since")
         self.begins = []
@@ -58,20 +60,7 @@ class Stands:
         return tuple(sorted([self.lines[number][1] for number in letters]))
 
 
-def _true_at(lines, free, many):
-    """Return the list of the stands at which each line is true, as the bits of a number."""
-    everywhere = (1 << many) - 1
-    told = []
-    for number, line in enumerate(lines):
-        if line[0] in _FREE:
-            place = free.index(number)
-            told.append(sum([1 << stand for stand in range(many) if (stand >> place) & 1 == 1]))
-        elif line[0] == "yes":
-            told.append(everywhere)
-        elif line[0] == "not":
-            told.append(everywhere ^ told[line[1]])
-        elif line[0] == "and":
-            told.append(told[line[1]] & told[line[2]])
-        else:
-            told.append(told[line[1]] | told[line[2]])
-    return told
+def _true_at(lines, free):
+    """Return the dict of the stands at which each line is true, as the bits of a number."""
+    known = {number: table_of(place, len(free)) for place, number in enumerate(free)}
+    return tables_of(lines, list(range(len(lines))), known, ways_of(len(free)))

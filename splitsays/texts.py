@@ -7,6 +7,9 @@ _LINE_ENDS = ("{", "}", ";")
 _NO_BLANK_BEHIND = ("-", "(")
 _NO_BLANK_AHEAD = (")", ";")
 
+# How many digits of the number of a line or a rule are read: one that has more is too great, however it goes on.
+_ENOUGH = 40
+
 
 def written(told):
     """Return the written text of a list of lexemes."""
@@ -69,6 +72,10 @@ class Reader:
             raise BadText(self.place())
         self.at += 1
         return self.found[self.at - 1][1]
+
+    def take_number(self):
+        """Take a number, and return it, or one of as many digits as are enough to be too great."""
+        return int(self.take_sort("number")[:_ENOUGH])
 
     def take_end(self):
         """Take it that nothing more comes."""

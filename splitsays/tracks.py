@@ -7,8 +7,8 @@ unless the truths themselves change often.
 
 from math import lcm
 
-from splitsays.rows import lots_between, one_form, turned
-from splitsays.sheets import members, tidy
+from splitsays.rows import lot_at, lots_between, one_form, turned
+from splitsays.sheets import members, needed_by_all, tidy, told_once
 
 
 def track_of(sheet, row):
@@ -18,6 +18,13 @@ def track_of(sheet, row):
     for track in tracks(lines, row):
         found = track
     return found
+
+
+def truths_of(sheet, numbers, row, moment):
+    """Return the dict of whether the lines of a sheet with these numbers are true at a moment of a row."""
+    lines, places = told_once(sheet, needed_by_all(sheet, numbers))
+    found = [lot_at(track, moment) for track in tracks(lines, row)]
+    return {number: found[places[number]] for number in numbers}
 
 
 def tracks(lines, row):

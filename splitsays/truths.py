@@ -1,8 +1,7 @@
 """Truths of sheets in rows."""
 
 from splitsays.rows import lot_at, nearest_unlike
-from splitsays.sheets import told_once
-from splitsays.tracks import track_of, tracks
+from splitsays.tracks import track_of, truths_of
 
 
 def truth(sheet, row, moment):
@@ -12,9 +11,8 @@ def truth(sheet, row, moment):
 
 def truths(sheet, row, moment):
     """Return the list of whether the lines of a sheet are true at a moment of a row, needed or not."""
-    lines, places = told_once(sheet, list(range(len(sheet))))
-    found = [lot_at(track, moment) for track in tracks(lines, row)]
-    return [found[places[number]] for number in range(len(sheet))]
+    found = truths_of(sheet, list(range(len(sheet))), row, moment)
+    return [found[number] for number in range(len(sheet))]
 
 
 def truth_row(sheet, row):

@@ -52,13 +52,22 @@ class Made(unittest.TestCase):
         self.assertEqual(len(self.maker.lines), len(LINES) + 2)
         self.assertEqual(self.maker.lines[self.maker.either(B, A)], ("or", B, A))
 
-    def test_since(self):
+    def test_choice(self):
         yes, no = self.maker.yes(), self.maker.no()
-        for other in (A, yes, no):
-            self.assertEqual(self.maker.since(yes, other), yes)
-            self.assertEqual(self.maker.since(no, other), no)
-        self.assertEqual(self.maker.lines[self.maker.since(A, yes)], ("since", A, yes))
-        self.assertEqual(self.maker.lines[self.maker.since(A, no)], ("since", A, no))
+        either, both = self.maker.either, self.maker.both
+        for if_true, if_false, made in ((B, B, B), (yes, no, A), (no, yes, NOT_A), (yes, B, either(A, B)),
+                                        (no, B, both(NOT_A, B)), (B, yes, either(NOT_A, B)), (B, no, both(A, B)),
+                                        (B, UNTIL, either(both(A, B), both(NOT_A, UNTIL)))):
+            self.assertEqual(self.maker.choice(A, if_true, if_false), made)
+
+    def test_look(self):
+        yes, no = self.maker.yes(), self.maker.no()
+        for word in ("until", "since"):
+            for other in (A, yes, no):
+                self.assertEqual(self.maker.look(word, yes, other), yes)
+                self.assertEqual(self.maker.look(word, no, other), no)
+            self.assertEqual(self.maker.lines[self.maker.look(word, A, yes)], (word, A, yes))
+            self.assertEqual(self.maker.lines[self.maker.look(word, A, no)], (word, A, no))
 
     def test_mixed_lines_told_anew(self):
         told = {A: B, B: self.maker.yes(), UNTIL: NOT_A}
@@ -72,11 +81,12 @@ class Made(unittest.TestCase):
         maker, numbers = self.maker, [A, B, UNTIL, NOT_A, self.maker.yes(), self.maker.no()]
         for one in numbers:
             for other in numbers:
-                made = [maker.both(one, other), maker.either(one, other), maker.since(one, other), maker.negation(one)]
-                plain = tuple((word, one, other) for word in ("and", "or", "since")) + (("not", one),)
+                made = [maker.both(one, other), maker.either(one, other), maker.look("since", one, other),
+                        maker.look("until", one, other), maker.negation(one)]
+                plain = tuple((word, one, other) for word in ("and", "or", "since", "until")) + (("not", one),)
                 for moment in range(-3, 8):
                     found = truths(tuple(maker.lines) + plain, R, moment)
-                    self.assertEqual([found[number] for number in made], found[-4:])
+                    self.assertEqual([found[number] for number in made], found[-5:])
 
 
 if __name__ == "__main__":

@@ -42,6 +42,32 @@ INTERFACE = {
     "drawing": {
         "drawn": ["sheet", "k", "j"], "judge_drawn": ["sheet", "k", "j", "value"], "left_to_draw": ["sheet"],
     },
+    "splitting": {"split": ["sheet"], "cases": ["sheet"], "left_of": ["sheet", "row", "moment"]},
+    "histories": {
+        "state_behind": ["sheet", "left"], "next_state": ["sheet", "state", "lot"],
+        "state_after": ["sheet", "state", "lots"], "says": ["sheet", "state"], "states_come_to": ["sheet", "lots"],
+        "like_states": ["sheet", "lots"], "told_apart": ["sheet", "lots", "one", "other"],
+    },
+    "leftover": {"left_over": ["sheet", "lots"]},
+    "claims": {
+        "check_claim": ["value"], "free_names": ["claim"], "depth": ["claim"], "breadth": ["claim"],
+        "claim_truth": ["claim", "row", "moment"],
+    },
+    "kamp": {"saying_of": ["claim"], "claim_of": ["sheet"]},
+    "rules": {
+        "check_rules": ["value"], "begin": ["book"], "keeps": ["book", "state", "lot"],
+        "next_of": ["book", "state", "lot"], "good_states": ["book"], "rank": ["book", "state"],
+        "worst": ["book", "state"], "answer": ["book", "state", "lot"],
+    },
+    # Of a class: the arguments with which it is made, and its methods with theirs.
+    "house": {
+        "House": {
+            "__init__": ["book"], "book": [], "history": [], "state": [], "is_good": [], "act_word": ["act"],
+            "do": ["act"], "undo": [], "redo": [], "acts": [], "mark": ["name"], "since": ["name"], "marks": [],
+            "twin": [],
+        },
+    },
+    "console": {"Console": {"__init__": ["house"], "answer": ["line"]}},
 }
 
 # What the package may import from outside of it.
@@ -63,8 +89,16 @@ class Interface(unittest.TestCase):
         for name, told in INTERFACE.items():
             module = importlib.import_module(f"splitsays.{name}")
             for word, arguments in told.items():
-                if arguments is not None:
+                if isinstance(arguments, list):
                     self.assertEqual(list(inspect.signature(getattr(module, word)).parameters), arguments, word)
+
+    def test_methods_are_defined_in_the_class_itself(self):
+        for name in ("house", "console"):
+            module = importlib.import_module(f"splitsays.{name}")
+            for word, methods in INTERFACE[name].items():
+                found = vars(getattr(module, word))
+                for method, arguments in methods.items():
+                    self.assertEqual(list(inspect.signature(found[method]).parameters), ["self"] + arguments, method)
 
 
 class Folder(unittest.TestCase):
