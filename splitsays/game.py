@@ -1,9 +1,8 @@
 """What can be kept of a book of rules: which states are good, and the ranks of the others.
 
-All moments that may be are looked at together. Each one has a number, whose
-bits tell of each letter of own, of each letter of world, and of each since line
-of the sheets was whether it is true there; own has the lowest bits. A choice of
-letters, and a state, have a number likewise.
+States and lots are told by numbers here. The bits of that of a state tell of
+each since line of the sheets was, rule by rule, whether it is true; those of
+that of a lot tell of each letter of own, and then of world, whether it holds.
 """
 
 from splitsays.machine import Machine
@@ -11,17 +10,31 @@ from splitsays.tables import table_of, tables_of, ways_of
 
 
 class Game:
-    """The states of a book by their numbers, and what each choice at each of them leads to."""
+    """The states of a book by their numbers, and what each choice at each of them leads to.
+
+    For each state there are a table of the lots that keep the book, and the
+    list of the states to which the lots lead.
+    """
 
     def __init__(self, book):
         self.own, self.world, rules = book
         self.machines = [Machine(was) for was, _ in rules]
-        self.many_letters = len(self.own) + len(self.world)
-        self.many_states = 1 << sum([len(machine.sinces) for machine in self.machines])
-        self.is_kept, self.leads_to = _moves(self, [Machine(shall) for _, shall in rules])
+        many = len(self.own) + len(self.world)
+        self.kept = [ways_of(many)]
+        self.leads_to = [[0] * (1 << many)]
+        letters = {letter: table_of(place, many) for place, letter in enumerate(self.own + self.world)}
+        for machine, (_, shall) in zip(self.machines, rules):
+            self._take_rule(_kept(machine, Machine(shall), letters, many), _leads_to(machine, letters, many))
         self.reached = [[self._reached(state, choice) for choice in range(1 << len(self.world))]
-                        for state in range(self.many_states)]
+                        for state in range(len(self.kept))]
         self.ranks = _ranks(self.reached)
+
+    def _take_rule(self, kept, leads_to):
+        """Take one rule more, of which the same is told by itself."""
+        many = len(self.kept)
+        self.kept = [table & own for own in kept for table in self.kept]
+        self.leads_to = [[state + many * later for state, later in zip(states, own)]
+                         for own in leads_to for states in self.leads_to]
 
     def number_of(self, state):
         """Return the number of a state."""
@@ -41,8 +54,9 @@ class Game:
 
         Each thing to do is a pair of numbers, of the choice and of the state to which it leads.
         """
-        start = (state << self.many_letters) + (choice << len(self.own))
-        return [(own, self.leads_to[start + own]) for own in range(1 << len(self.own)) if self.is_kept[start + own]]
+        start = choice << len(self.own)
+        return [(own, self.leads_to[state][start + own]) for own in range(1 << len(self.own))
+                if (self.kept[state] >> (start + own)) & 1 == 1]
 
     def _reached(self, state, choice):
         """Return the states to which the doer may lead then, as the bits of a number."""
@@ -51,17 +65,12 @@ class Game:
             found |= 1 << later
         return found
 
-    def all_later(self, state):
-        """Return the list of the states to which lots lead from a state, whether these keep the book or not."""
-        start = state << self.many_letters
-        return self.leads_to[start:start + (1 << self.many_letters)]
-
     def worst(self, state):
         """Return the number of a choice of the world by which a state has its rank, or None for a good one."""
         rank = self.ranks[state]
         if rank is None:
             return None
-        saved = sum([1 << number for number, other in enumerate(self.ranks) if other is None or other >= rank])
+        saved = _number([other is None or other >= rank for other in self.ranks])
         return [choice for choice, found in enumerate(self.reached[state]) if (found & saved) == 0][0]
 
     def best(self, state, choice):
@@ -88,42 +97,38 @@ def _number(truths):
     return sum([1 << place for place, is_true in enumerate(truths) if is_true])
 
 
-def _moves(game, shalls):
-    """Return the lists of whether a moment keeps the book, and of the state to which it leads, for each moment."""
-    many = game.many_letters + sum([len(machine.sinces) for machine in game.machines])
-    letters = {letter: table_of(place, many) for place, letter in enumerate(game.own + game.world)}
-    kept = ways_of(many)
-    leads_to = [0] * (1 << many)
-    place = game.many_letters
-    for machine, shall in zip(game.machines, shalls):
-        sinces = {number: table_of(place + at, many) for at, number in enumerate(machine.sinces)}
-        was = _tables(machine.lines, letters, sinces, many)
-        done = _tables(shall.lines, letters, {}, many)
-        kept &= (ways_of(many) ^ was[len(machine.lines) - 1]) | done[len(shall.lines) - 1]
+def _kept(machine, shall, letters, many):
+    """Return the list of the tables of the lots that keep a rule, for each state of its sheet was."""
+    done = _tables(shall, 0, letters, many)[len(shall.lines) - 1]
+    last = len(machine.lines) - 1
+    return [(ways_of(many) ^ _tables(machine, state, letters, many)[last]) | done
+            for state in range(1 << len(machine.sinces))]
+
+
+def _leads_to(machine, letters, many):
+    """Return for each state of a sheet was the list of the states to which the lots lead."""
+    found = []
+    for state in range(1 << len(machine.sinces)):
+        tables = _tables(machine, state, letters, many)
+        later = []
         for number in machine.sinces:
             _, one, other = machine.lines[number]
-            later = _bits(was[one] | (was[other] & was[number]), many)
-            bit = 1 << (place - game.many_letters)
-            leads_to = [state + bit if sign == "1" else state for state, sign in zip(leads_to, later)]
-            place += 1
-    return [sign == "1" for sign in _bits(kept, many)], leads_to
+            later.append(tables[one] | (tables[other] & tables[number]))
+        found.append([_number([(table >> lot) & 1 == 1 for table in later]) for lot in range(1 << many)])
+    return found
 
 
-def _tables(lines, letters, sinces, many):
-    """Return the dict of the tables of lines, those of letters and of since lines being known."""
-    known = {number: letters[line[1]] for number, line in enumerate(lines) if line[0] == "letter"}
-    known.update(sinces)
-    return tables_of(lines, list(range(len(lines))), known, ways_of(many))
-
-
-def _bits(table, many):
-    """Return the string of the bits of a table, the lowest one first."""
-    return f"{table:b}".zfill(1 << many)[::-1]
+def _tables(machine, state, letters, many):
+    """Return the dict of the tables of the lots with which the lines of a machine are true at a state."""
+    known = {number: letters[line[1]] for number, line in enumerate(machine.lines) if line[0] == "letter"}
+    for place, number in enumerate(machine.sinces):
+        known[number] = ways_of(many) if (state >> place) & 1 == 1 else 0
+    return tables_of(machine.lines, list(range(len(machine.lines))), known, ways_of(many))
 
 
 def _ranks(reached):
     """Return the list of the ranks of all states, None for good ones, by the states to which each choice may lead."""
-    ranks = [None for _ in reached]
+    ranks = [None] * len(reached)
     good = (1 << len(reached)) - 1
     lost = [state for state, found in enumerate(reached) if 0 in found]
     rank = 0

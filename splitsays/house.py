@@ -67,7 +67,7 @@ class House:
 
     def acts(self):
         """Return the list of the acts done, each as it was passed."""
-        return [act for act, _, _ in self._done]
+        return [step[0] for step in self._done]
 
     def mark(self, name):
         """Set a mark with a word."""

@@ -88,7 +88,7 @@ def good_states(book):
         number = ahead.pop()
         if number not in found:
             found[number] = True
-            ahead.extend(game.all_later(number))
+            ahead.extend(list(game.leads_to[number]))
     return sorted([game.state_of(number) for number in found if game.ranks[number] is None])
 
 
